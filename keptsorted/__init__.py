@@ -1,0 +1,1 @@
+"""Keptsorted: sortings along chains that keep one another."""
