@@ -2,6 +2,7 @@
 
 import copy
 import itertools
+import time
 
 HUGE = 10 ** 60 - 1
 
@@ -46,6 +47,21 @@ def all_marks(places):
     return [list(marks) for marks in itertools.product((0, 1), repeat=places)]
 
 
+def marks_in_order(places):
+    """All fillings by 0 and 1, those with fewer ones first, those with equally many as lists are ordered."""
+    return sorted(all_marks(places), key=lambda marks: (sum(marks), marks))
+
+
+def all_orders(places):
+    """All fillings by the numbers from 1 on, each once, as lists are ordered."""
+    return [list(order) for order in itertools.permutations(range(1, places + 1))]
+
+
+def all_values(places, kinds):
+    """All fillings by so many kinds of values."""
+    return [list(values) for values in itertools.product(range(kinds), repeat=places)]
+
+
 def reference_sorted(filling, family):
     """The filling after each chain was sorted by exchanging neighbours in it until none is amiss."""
     values = dict(enumerate(filling, 1))
@@ -55,6 +71,12 @@ def reference_sorted(filling, family):
                 if values[one] > values[two]:
                     values[one], values[two] = values[two], values[one]
     return [values[place] for place in range(1, len(filling) + 1)]
+
+
+def reference_after_row(filling, row):
+    for family in row:
+        filling = reference_sorted(filling, family)
+    return filling
 
 
 def reference_is_sorted(filling, family):
@@ -73,6 +95,19 @@ def reference_keeps(first, second, fillings):
         for filling in fillings
         if reference_is_sorted(filling, second)
     )
+
+
+def places_reached(places, families):
+    """For each place those to which one comes by steps from a place of a chain to the next one in it."""
+    reached = {place: set() for place in range(1, places + 1)}
+    for family in families:
+        for chain in family:
+            for one, two in zip(chain, chain[1:]):
+                reached[one].add(two)
+    for middle, start in itertools.product(list(reached), repeat=2):
+        if middle in reached[start]:
+            reached[start] |= reached[middle]
+    return reached
 
 
 def some_family(source, places, left_out=0):
@@ -97,6 +132,15 @@ def gap_chains(places, gap):
     return [list(range(start, places + 1, gap)) for start in range(1, gap + 1)]
 
 
+def turned_about(family):
+    return [chain[::-1] for chain in family]
+
+
+def bricks(places):
+    """The families of the neighbours from the first place on, and from the second one on."""
+    return [[[place, place + 1] for place in range(start, places, 2)] for start in (1, 2)]
+
+
 def lists_in(thing):
     """The ids of all list objects in a thing."""
     if not isinstance(thing, (list, tuple)):
@@ -118,6 +162,14 @@ def assert_leaves_alone(case, function, *arguments):
     again = function(*arguments)
     case.assertEqual(again, answer)
     case.assertFalse(set(lists_in(again)) & set(fresh))
+    return answer
+
+
+def assert_in_time(case, function, *arguments):
+    """Check that a call ends within ten seconds; gives its answer."""
+    start = time.perf_counter()
+    answer = function(*arguments)
+    case.assertLess(time.perf_counter() - start, 10)
     return answer
 
 

@@ -12,6 +12,15 @@ INTERFACE = {
     "families": {"sort_by": ["filling", "family"], "is_sorted_by": ["filling", "family"],
                  "after_row": ["filling", "row"]},
     "keeps": {"keeps": ["places", "first", "second"], "breaking": ["places", "first", "second"]},
+    "rows": {"sure_pairs": ["places", "row"], "sorts": ["places", "row", "family"],
+             "unsorted": ["places", "row", "family"], "are_alike": ["places", "row", "other"],
+             "parting": ["places", "row", "other"], "needless": ["places", "row"]},
+    "together": {"keep_one_another": ["places", "families"], "sure_together": ["places", "families"],
+                 "count_orders": ["places", "families"], "count_marks": ["places", "families"],
+                 "orders": ["places", "families"]},
+    "tables": {"axes": ["lengths"], "snakes": ["rows", "columns"], "snake": ["rows", "columns"],
+               "shear": ["rows", "columns"], "fewest_rounds": ["rows", "columns"],
+               "count_tables": ["rows", "columns"], "count_marked": ["rows", "columns"]},
 }
 
 

@@ -11,14 +11,7 @@ from tests import helpers
 
 def steps_lead_back(places, families):
     """Whether one comes from a place back to itself by steps from a place of a chain to the next one."""
-    reached = {place: set() for place in range(1, places + 1)}
-    for family in families:
-        for chain in family:
-            for one, two in zip(chain, chain[1:]):
-                reached[one].add(two)
-    for middle, start in itertools.product(list(reached), repeat=2):
-        if middle in reached[start]:
-            reached[start] |= reached[middle]
+    reached = helpers.places_reached(places, families)
     return any(place in reached[place] for place in reached)
 
 

@@ -6,7 +6,27 @@ import unittest
 from keptsorted.errors import InvalidFamily, InvalidFilling, InvalidNumber, InvalidRow
 from keptsorted.families import after_row, is_sorted_by, sort_by
 from keptsorted.keeps import breaking, keeps
+from keptsorted.rows import are_alike, needless, parting, sorts, sure_pairs, unsorted
+from keptsorted.together import count_marks, count_orders, keep_one_another, orders, sure_together
 from tests import helpers
+
+
+def first_order(places, families):
+    """The first filling of the generator, so that its errors are met like those of a function."""
+    return next(orders(places, families))
+
+
+# Each function that takes places, with what may stand behind them.
+BEHIND_PLACES = (
+    (keeps, ([], [])), (breaking, ([], [])), (sure_pairs, ([],)), (sorts, ([], [])), (unsorted, ([], [])),
+    (are_alike, ([], [])), (parting, ([], [])), (needless, ([],)), (keep_one_another, ([],)), (sure_together, ([],)),
+    (count_orders, ([],)), (count_marks, ([],)), (first_order, ([],)),
+)
+# Each function that takes a row behind the places, with what may stand behind it.
+BEHIND_ROW = (
+    (sure_pairs, ()), (sorts, ([],)), (unsorted, ([],)), (are_alike, ([],)), (parting, ([],)), (needless, ()),
+    (keep_one_another, ()), (sure_together, ()), (count_orders, ()), (count_marks, ()), (first_order, ()),
+)
 
 
 class Whole(int):
@@ -26,22 +46,38 @@ class Wrong(unittest.TestCase):
         error = helpers.caught(self, InvalidRow, function, *arguments)
         self.assertEqual((error.family, error.chain, error.index), (family, chain, index))
 
+    def assert_everywhere_as_row(self, family, chain, index, places, row):
+        """A wrong row is handed in under each of its names: `row`, `other`, `families`."""
+        for function, rest in BEHIND_ROW:
+            self.assert_row(family, chain, index, function, places, row, *rest)
+        for function in (are_alike, parting):
+            self.assert_row(family, chain, index, function, places, [], row)
+
 
 class WrongPlaces(Wrong):
     def test_numbers_out_of_bounds(self):
-        for function in (keeps, breaking):
+        for function, rest in BEHIND_PLACES:
             for number in (0, -1, 41, 42, 10 ** 70, -10 ** 70, 10 ** 5000):
-                self.assertIs(helpers.caught(self, InvalidNumber, function, number, [], []).number, number)
+                self.assertIs(helpers.caught(self, InvalidNumber, function, number, *rest).number, number)
 
     def test_things_of_any_other_kind(self):
-        for function in (keeps, breaking):
+        for function, rest in BEHIND_PLACES:
             for thing in helpers.things_that_are_no_whole_numbers():
-                self.assertIs(helpers.caught(self, InvalidNumber, function, thing, [], []).number, thing)
+                self.assertIs(helpers.caught(self, InvalidNumber, function, thing, *rest).number, thing)
 
     def test_numbers_within_bounds(self):
         for function, expected in ((keeps, True), (breaking, None)):
             for number in (1, 2, 39, 40, Whole(1), Whole(40)):
                 self.assertIs(function(number, [[1]], [[number]]), expected)
+        for number in (1, 2, 39, 40, Whole(1), Whole(40)):
+            self.assertIs(keep_one_another(number, [[[number]]]), True)
+            self.assertEqual(sure_together(number, [[[number]]]), [])
+            self.assertEqual(first_order(number, [[[number]]]), list(range(1, number + 1)))
+        for number in (1, 2, 12, Whole(1), Whole(12)):
+            self.assertEqual(sure_pairs(number, [[[number]]]), [])
+            self.assertIs(sorts(number, [], [[number]]), True)
+            self.assertIs(are_alike(number, [], [[[number]]]), True)
+            self.assertEqual(needless(number, [[[number]]]), [0])
 
 
 class WrongFillings(Wrong):
@@ -84,7 +120,7 @@ class WrongFillings(Wrong):
 
 
 class WrongFamilies(Wrong):
-    """Each wrong family is handed in under each of its names: `family`, `first`, `second`."""
+    """Each wrong family is handed in under each of its names, and as a part of each row."""
 
     def assert_everywhere(self, chain, index, places, family):
         filling = list(range(places))
@@ -93,9 +129,12 @@ class WrongFamilies(Wrong):
         for function in (keeps, breaking):
             self.assert_family(chain, index, function, places, family, [])
             self.assert_family(chain, index, function, places, [], family)
+        for function in (sorts, unsorted):
+            self.assert_family(chain, index, function, places, [], family)
         for at in (0, 2):
             row = [[[1]]] * at + [family] + [[], None]
             self.assert_row(at, chain, index, after_row, filling, row)
+            self.assert_everywhere_as_row(at, chain, index, places, row)
 
     def test_no_list(self):
         for thing in helpers.things_that_are_no_lists():
@@ -151,26 +190,35 @@ class WrongFamilies(Wrong):
 
 
 class WrongRows(Wrong):
+    def assert_everywhere(self, family, chain, index, places, row):
+        self.assert_row(family, chain, index, after_row, list(range(places)), row)
+        self.assert_everywhere_as_row(family, chain, index, places, row)
+
     def test_no_list(self):
         for thing in helpers.things_that_are_no_lists():
-            self.assert_row(None, None, None, after_row, [1, 2], thing)
+            self.assert_everywhere(None, None, None, 2, thing)
 
     def test_families_that_are_no_lists(self):
         for thing in helpers.things_that_are_no_lists():
-            self.assert_row(0, None, None, after_row, [1, 2], [thing])
-            self.assert_row(2, None, None, after_row, [1, 2], [[], [[1]], thing, []])
+            self.assert_everywhere(0, None, None, 2, [thing])
+            self.assert_everywhere(2, None, None, 2, [[], [[1]], thing, []])
 
     def test_the_first_wrong_family_is_told(self):
-        self.assert_row(1, 0, 0, after_row, [1, 2], [[[1, 2]], [[3]], None])
-        self.assert_row(1, 1, None, after_row, [1, 2], [[[1, 2]], [[1], 2], [[0]]])
-        self.assert_row(0, None, None, after_row, [1, 2], [5, [[3]]])
-        self.assert_row(59, 1, 1, after_row, [1, 2], [[[1, 2]]] * 59 + [[[1], [2, 1]]])
+        self.assert_everywhere(1, 0, 0, 2, [[[1, 2]], [[3]], None])
+        self.assert_everywhere(1, 1, None, 2, [[[1, 2]], [[1], 2], [[0]]])
+        self.assert_everywhere(0, None, None, 2, [5, [[3]]])
+
+    def test_rows_beyond_the_bounds_are_checked_whole(self):
+        self.assert_everywhere(59, 1, 1, 2, [[[1, 2]]] * 59 + [[[1], [2, 1]]])
+        self.assert_everywhere(200, None, None, 40, [[[2, 1]]] * 200 + [None])
 
     def test_a_place_may_come_again_in_another_family(self):
         self.assertEqual(after_row([2, 1], [[[1, 2]], [[1, 2]], [[2, 1]]]), [2, 1])
+        self.assertEqual(sure_pairs(2, [[[1, 2]], [[1, 2]], [[2, 1]]]), [(2, 1)])
+        self.assertIs(keep_one_another(2, [[[1, 2]], [[1, 2]], [[2, 1]]]), False)
 
     def test_a_family_instead_of_a_row(self):
-        self.assert_row(0, 0, None, after_row, [1, 2], [[1, 2]])
+        self.assert_everywhere(0, 0, None, 2, [[1, 2]])
 
 
 class OrderOfTheArguments(Wrong):
@@ -183,6 +231,23 @@ class OrderOfTheArguments(Wrong):
         for function in (keeps, breaking):
             self.assertIs(helpers.caught(self, InvalidNumber, function, 0, None, None).number, 0)
             self.assertIs(helpers.caught(self, InvalidNumber, function, None, [[9]], [[9]]).number, None)
+
+    def test_the_places_come_before_everything(self):
+        for function, rest in BEHIND_PLACES:
+            for wrong in (None, [None], [[None]], [[[9]]]):
+                arguments = [wrong for _ in rest]
+                self.assertIs(helpers.caught(self, InvalidNumber, function, 0, *arguments).number, 0)
+                self.assertIs(helpers.caught(self, InvalidNumber, function, False, *arguments).number, False)
+
+    def test_the_row_comes_before_the_family_and_the_other_row(self):
+        for function in (sorts, unsorted, are_alike, parting):
+            for wrong in (None, [None], [[None]], [[0]], [[[0]]]):
+                self.assert_row(None, None, None, function, 3, (), wrong)
+                self.assert_row(1, 0, 1, function, 3, [[[3]], [[1, 4]]], wrong)
+        for function in (sorts, unsorted):
+            self.assert_family(1, 0, function, 3, [[[3]], [[1, 2]]], [[1, 2], [2]])
+        for function in (are_alike, parting):
+            self.assert_row(1, 0, None, function, 3, [[[3]], [[1, 2]]], [[[1, 2]], [2]])
 
     def test_the_first_family_comes_before_the_second_one(self):
         for function in (keeps, breaking):
@@ -199,12 +264,22 @@ class OrderOfTheArguments(Wrong):
         self.assertEqual((error.chain, error.index), (0, None))
         error = helpers.caught(self, InvalidNumber, breaking, second=None, first=[None], places=True)
         self.assertIs(error.number, True)
+        error = helpers.caught(self, InvalidRow, sorts, family=None, row=[None], places=3)
+        self.assertEqual((error.family, error.chain, error.index), (0, None, None))
+        error = helpers.caught(self, InvalidRow, parting, other=None, row=[[None]], places=3)
+        self.assertEqual((error.family, error.chain, error.index), (0, 0, None))
+        error = helpers.caught(self, InvalidNumber, count_marks, families=None, places=41)
+        self.assertEqual(error.number, 41)
 
-    def test_the_second_family_is_checked_also_where_it_is_not_needed(self):
+    def test_the_later_argument_is_checked_also_where_it_is_not_needed(self):
         self.assert_family(0, 0, keeps, 1, [], [[2]])
         self.assert_family(1, 0, sort_by, [1, 2], [[1, 2], [2]])
         self.assert_family(1, 0, is_sorted_by, [2, 1], [[1, 2], [3]])
         self.assert_row(1, 0, 0, after_row, [2, 1], [[[1, 2]], [[3]]])
+        self.assert_family(0, 0, sorts, 1, [], [[2]])
+        self.assert_family(0, 0, unsorted, 1, [[[1]]], [[2]])
+        self.assert_row(0, 0, 0, are_alike, 1, [], [[[2]]])
+        self.assert_row(0, 0, 0, parting, 1, [[[1]]], [[[2]]])
 
 
 class NothingIsChanged(Wrong):
@@ -216,6 +291,9 @@ class NothingIsChanged(Wrong):
         self.assert_row(1, 0, 0, after_row, filling, row)
         for function in (keeps, breaking):
             self.assert_family(1, 0, function, 3, [[1, 2]], family)
+        self.assert_everywhere_as_row(1, 0, 0, 3, row)
+        for function in (sorts, unsorted):
+            self.assert_family(1, 0, function, 4, row, family)
         self.assertEqual((filling, family, row), before)
 
 
