@@ -15,10 +15,28 @@ def is_whole_within(thing, least, most):
     return is_whole(thing) and least <= thing <= most
 
 
+def check_number(number, most):
+    """Raise InvalidNumber unless the thing is a whole number from 1 to the most one."""
+    if not is_whole_within(number, 1, most):
+        raise InvalidNumber(number)
+
+
 def check_places(places):
     """Raise InvalidNumber unless there can be so many places."""
-    if not is_whole_within(places, 1, MOST_PLACES):
-        raise InvalidNumber(places)
+    check_number(places, MOST_PLACES)
+
+
+def check_gap(places, gap):
+    """Raise InvalidNumber unless the thing is a gap of so many places."""
+    check_number(gap, places)
+
+
+def check_gaps(places, gaps):
+    """Raise InvalidNumber unless the thing is a list of gaps of so many places."""
+    if not isinstance(gaps, list):
+        raise InvalidNumber(gaps)
+    for gap in gaps:
+        check_gap(places, gap)
 
 
 def check_filling(filling):

@@ -59,7 +59,7 @@ def is_never_greater(places, reached, one, two):
     """Whether none of the fillings with these numbers has 1 at the one place and 0 at the two place."""
     greater = mark_of(places, one)
     both = greater | mark_of(places, two)
-    return all(number & both != greater for number in reached)
+    return all([number & both != greater for number in reached])
 
 
 def first_unlike(places, after, other_after):

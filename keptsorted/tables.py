@@ -2,7 +2,7 @@
 
 from math import comb, factorial
 
-from keptsorted.checks import MOST_PLACES, is_whole_within
+from keptsorted.checks import MOST_PLACES, check_number
 from keptsorted.errors import InvalidNumber
 from keptsorted.marks import after_family
 
@@ -48,7 +48,7 @@ def fewest_rounds(rows, columns):
     by_snake = after_family(places, [snake(rows, columns)])
     reached = list(range(1 << places))
     rounds = 0
-    while any(by_snake[number] != by_snakes[number] for number in reached):
+    while any([by_snake[number] != by_snakes[number] for number in reached]):
         reached = sorted({by_columns[by_snakes[number]] for number in reached})
         rounds += 1
     return rounds
@@ -75,18 +75,15 @@ def check_lengths(lengths):
     if not isinstance(lengths, list) or not 1 <= len(lengths) <= MOST_SIDES:
         raise InvalidNumber(lengths)
     for thing in lengths:
-        if not is_whole_within(thing, 1, MOST_PLACES):
-            raise InvalidNumber(thing)
+        check_number(thing, MOST_PLACES)
     if product_of(lengths) > MOST_PLACES:
         raise InvalidNumber(lengths)
 
 
 def check_table(rows, columns, most):
     """Raise InvalidNumber unless there can be a table with so many rows and columns and at most so many places."""
-    if not is_whole_within(rows, 1, most):
-        raise InvalidNumber(rows)
-    if not is_whole_within(columns, 1, most // rows):
-        raise InvalidNumber(columns)
+    check_number(rows, most)
+    check_number(columns, most // rows)
 
 
 def product_of(numbers):

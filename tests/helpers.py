@@ -132,6 +132,41 @@ def gap_chains(places, gap):
     return [list(range(start, places + 1, gap)) for start in range(1, gap + 1)]
 
 
+def reference_sums(places, gaps):
+    """The sums of gaps less than the number of places, by adding gaps to the sums found until nothing is new."""
+    found = {gap for gap in gaps if gap < places}
+    while True:
+        more = {one + gap for one in found for gap in gaps if one + gap < places}
+        if more <= found:
+            return sorted(found)
+        found |= more
+
+
+def reference_gaps_of(filling):
+    places = len(filling)
+    return [
+        gap for gap in range(1, places)
+        if not any(filling[one] > filling[one + gap] for one in range(places - gap))
+    ]
+
+
+def reference_sweep(filling, gap):
+    """The filling after each two places a gap apart were looked at, from the first place on."""
+    values = dict(enumerate(filling, 1))
+    for place in range(1, len(filling) - gap + 1):
+        values[place], values[place + gap] = sorted([values[place], values[place + gap]])
+    return list(values.values())
+
+
+def reference_count_sweeps(filling, gap):
+    """How many sweeps are made until one changes nothing."""
+    made = 0
+    while reference_sweep(filling, gap) != filling:
+        filling = reference_sweep(filling, gap)
+        made += 1
+    return made
+
+
 def turned_about(family):
     return [chain[::-1] for chain in family]
 

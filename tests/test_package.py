@@ -1,11 +1,14 @@
-"""What holds for the files of the package as a whole: the names of the interface, and sizes and signs."""
+"""What holds for the package as a whole: the names of the interface, sizes and signs, and the examples of README.md."""
 
 import ast
+import doctest
 import importlib
 import inspect
 import pathlib
 import re
 import unittest
+
+from keptsorted.sorter import Sorter
 
 FOLDER = pathlib.Path(__file__).resolve().parent.parent / "keptsorted"
 INTERFACE = {
@@ -21,6 +24,15 @@ INTERFACE = {
     "tables": {"axes": ["lengths"], "snakes": ["rows", "columns"], "snake": ["rows", "columns"],
                "shear": ["rows", "columns"], "fewest_rounds": ["rows", "columns"],
                "count_tables": ["rows", "columns"], "count_marked": ["rows", "columns"]},
+    "gaps": {"gap_family": ["places", "gap"], "sums": ["places", "gaps"], "gaps_of": ["filling"],
+             "sweep": ["filling", "gap"], "count_sweeps": ["filling", "gap"],
+             "sweeps_needed": ["places", "gaps", "gap"], "slowest": ["places", "gaps", "gap"]},
+    "plans": {"sweeps_of": ["places", "plan"], "cost_of": ["places", "plan"], "sorts_all": ["places", "plan"],
+              "after_plan": ["filling", "plan"], "least_cost": ["places", "gaps"], "cheapest": ["places", "gaps"]},
+}
+METHODS_OF_SORTER = {
+    "__init__": ["filling"], "apply": ["family"], "sweep": ["gap"], "is_sorted": ["family"], "gaps": [],
+    "run": ["row"], "undo": [],
 }
 
 
@@ -36,6 +48,26 @@ class Interface(unittest.TestCase):
                 for parameter in told:
                     self.assertIs(parameter.kind, parameter.POSITIONAL_OR_KEYWORD)
                     self.assertIs(parameter.default, parameter.empty)
+
+    def test_each_method_stands_in_the_class_itself_with_its_parameters(self):
+        self.assertEqual(Sorter.__module__, "keptsorted.sorter")
+        for name, parameters in METHODS_OF_SORTER.items():
+            told = list(inspect.signature(vars(Sorter)[name]).parameters.values())[1:]
+            self.assertEqual([parameter.name for parameter in told], parameters)
+            for parameter in told:
+                self.assertIs(parameter.kind, parameter.POSITIONAL_OR_KEYWORD)
+                self.assertIs(parameter.default, parameter.empty)
+        for name in ("__len__", "__iter__", "__getitem__", "__setitem__"):
+            self.assertTrue(inspect.isfunction(vars(Sorter)[name]), name)
+        self.assertIsInstance(vars(Sorter)["filling"], property)
+        self.assertTrue(inspect.isgeneratorfunction(Sorter.run))
+
+
+class Readme(unittest.TestCase):
+    def test_examples(self):
+        failed, tried = doctest.testfile(str(FOLDER.parent / "README.md"), module_relative=False)
+        self.assertEqual(failed, 0)
+        self.assertGreater(tried, 0)
 
 
 class Files(unittest.TestCase):
