@@ -81,7 +81,7 @@ def places_below(places, families):
     for middle in range(1, places + 1):
         for place in range(1, places + 1):
             if below[place] & mark_of(places, middle):
-                below[place] |= below[middle]
+                below[place] = below[place] | below[middle]
     return below
 
 

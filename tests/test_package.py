@@ -36,6 +36,35 @@ METHODS_OF_SORTER = {
 }
 
 
+def changed_in_place(node):
+    """What an augmented assignment, extend or update changes, and what it gets; None of other nodes."""
+    if isinstance(node, ast.AugAssign):
+        return node.target, [node.value]
+    if isinstance(node, ast.Call) and isinstance(node.func, ast.Attribute) and node.func.attr in ("extend", "update"):
+        return node.func.value, node.args
+    return None
+
+
+def container_of(node):
+    """The text of the variable, or of the attribute of self, of which a thing is a part or which it is itself."""
+    while isinstance(node, (ast.Subscript, ast.Attribute)) and ast.unparse(node.value) != "self":
+        node = node.value
+    return ast.unparse(node)
+
+
+def rows_that_get_what_they_change(text):
+    """The rows of a file in which +=, |= and the like, extend or update get something of what they change."""
+    found = []
+    for node in ast.walk(ast.parse(text)):
+        told = changed_in_place(node)
+        if told is not None:
+            container = container_of(told[0])
+            parts = [part for thing in told[1] for part in ast.walk(thing) if isinstance(part, ast.expr)]
+            if container in [ast.unparse(part) for part in parts]:
+                found.append(ast.unparse(node))
+    return found
+
+
 class Interface(unittest.TestCase):
     def test_each_function_stands_in_its_file_with_its_parameters(self):
         for file, functions in INTERFACE.items():
@@ -102,6 +131,20 @@ class Files(unittest.TestCase):
                 if isinstance(node, ast.ImportFrom):
                     self.assertEqual(node.level, 0)
                     self.assertTrue(node.module.startswith("keptsorted.") or node.module in allowed, node.module)
+
+    def test_nothing_is_changed_in_place_by_a_part_of_itself(self):
+        for path in self.files():
+            self.assertEqual(rows_that_get_what_they_change(path.read_text()), [], path)
+
+    def test_what_is_changed_in_place_by_a_part_of_itself_is_found(self):
+        for row in ("below[place] |= below[middle]", "below[place] |= below[place]", "rows += rows",
+                    "rows += [row for row in rows]", "rows.extend(rows[0])", "rows[0].extend(rows)",
+                    "ways.update(ways)", "self.rows[0] += self.rows[1]", "self.rows.extend(list(self.rows))"):
+            self.assertEqual(rows_that_get_what_they_change(row), [row])
+        for row in ("below[following] |= mark_of(places, place)", "below[place] = below[place] | below[middle]",
+                    "rows += row", "rounds += 1", "ways.update(layer)", "rows.append(rows[0])",
+                    "self.rows[0] += self.values[0]"):
+            self.assertEqual(rows_that_get_what_they_change(row), [])
 
 
 if __name__ == "__main__":
